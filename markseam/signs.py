@@ -13,11 +13,15 @@ def is_sign(thing):
     return isinstance(thing, str) and len(thing) == 1 and thing in SIGNS
 
 
+def is_text(thing):
+    """Tell whether a thing is a text of signs, of any length."""
+    # The letters of ASCII are just the fifty-two signs, and long texts are judged at once so.
+    return isinstance(thing, str) and (thing == "" or (thing.isascii() and thing.isalpha()))
+
+
 def are_signs(thing, least, most):
     """Tell whether a thing is a text of signs, from least to most of them."""
-    if not isinstance(thing, str) or not least <= len(thing) <= most:
-        return False
-    return all([sign in SIGNS for sign in thing])
+    return is_text(thing) and least <= len(thing) <= most
 
 
 def are_unlike_signs(thing, most):
@@ -52,6 +56,11 @@ def want_word_of(word, letters):
 
 def common_start(one, other):
     """Tell the longest text with which both texts begin."""
+    # Mostly one is a beginning of the other, and long ones are compared at once so.
+    if other.startswith(one):
+        return one
+    if one.startswith(other):
+        return other
     many = 0
     for sign, said in zip(one, other):
         if sign != said:

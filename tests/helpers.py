@@ -1,8 +1,13 @@
-"""What the tests share: refusals that are told whole, and things of every kind."""
+"""What the tests share: refusals that are told whole, things of every kind, and rules and machines made by chance."""
 
+import itertools
 import unittest
 
 from markseam import errors
+from markseam.machine import Machine
+from markseam.passes import Pass
+from markseam.rules import Rule
+from markseam.shaper import Shaper
 
 KINDS = (
     errors.NoWord, errors.NoRule, errors.NoCase, errors.NoRoom, errors.NoPlace,
@@ -61,6 +66,67 @@ def no_wholes():
 def no_lists():
     """None is left out: many arguments take it as a list without things."""
     return things() + [0, 1, "", "a", "ab", {}, {"a": 1}, (), ("a",)]
+
+
+def no_letters():
+    return no_texts() + ["", "aa", "aba", "a1", "a b", "|", "abcdefghijklmnopq"]
+
+
+def words(letters, most):
+    """All words of the letters with at most so many, in their order."""
+    return ["".join(signs) for many in range(most + 1) for signs in itertools.product(letters, repeat=many)]
+
+
+def start_of_all(texts):
+    """The longest text with which all of them begin."""
+    low, high = min(texts), max(texts)
+    many = 0
+    while many < len(low) and low[many] == high[many]:
+        many += 1
+    return low[:many]
+
+
+def row_by_rooms(machine, word):
+    """A machine's row of a word, read off its rooms."""
+    told, room, rooms = machine.first(), 0, machine.rooms()
+    for letter in word:
+        text, room = rooms[room][1][machine.letters().index(letter)]
+        told += text
+    return told + rooms[room][0]
+
+
+def machine_by(chance, letters="ab", most=4):
+    """A small machine: a random.Random chooses it."""
+    many = chance.randrange(1, most + 1)
+    texts = chance.choice([("", "", "x", "y", "xy", "xx", "yx", "xyx"), ("", "x", "xx"), ("x", "y"), ("", "x", "y")])
+    rooms = [(chance.choice(texts), [(chance.choice(texts), chance.randrange(many)) for _ in letters])
+             for _ in range(many)]
+    return Machine(letters, rooms, chance.choice(texts))
+
+
+def rule_by(chance, signs):
+    def places(many):
+        return ["".join(chance.sample(signs, chance.randrange(1, len(signs) + 1))) for _ in range(many)]
+    becomes = "".join(chance.choice(signs) for _ in range(chance.randrange(4)))
+    behind, ahead = places(chance.choice([0, 0, 1, 2])), places(chance.choice([0, 0, 1, 2]))
+    if behind and chance.random() < 0.3:
+        behind[0] = "|"
+    if ahead and chance.random() < 0.3:
+        ahead[-1] = "|"
+    return Rule(places(chance.choice([1, 1, 2, 2, 3])), becomes, behind, ahead)
+
+
+def shaper_by(chance, signs="abc", most=3):
+    """A small shaper: a random.Random chooses it."""
+    return Shaper([Pass([rule_by(chance, signs) for _ in range(chance.choice([0, 1, 1, 2, 3]))])
+                   for _ in range(chance.randrange(most + 1))])
+
+
+# Shapers, by the letters, with just as many stands.
+ALL_G = "abcdefg"
+STANDS_200 = Shaper([Pass([Rule(["a"], "b", [ALL_G, ALL_G]), Rule(["abcde", ALL_G], "", [ALL_G])])])
+ALL_H = "abcdefgh"
+STANDS_201 = Shaper([Pass([Rule(["abcdefg"], "a"), Rule(["a", ALL_H], "", [ALL_H], [ALL_H])])])
 
 
 class SeamCase(unittest.TestCase):

@@ -15,6 +15,18 @@ FUNCTIONS = {
         "ordered": "case word", "turned": "word row", "settled": "case word", "exchanges": "case word",
         "same_marks": "case one other",
     },
+    "stands": {
+        "start": "shaper", "fed": "shaper stand sign", "ended": "shaper stand", "stands_of": "shaper letters",
+    },
+    "least": {"least_of": "machine", "machine_of": "shaper letters"},
+    "papers": {"paper_of": "shaper letters", "check_paper": "shaper machine paper"},
+    "judging": {
+        "parting": "one other", "alike": "one other", "check_alike": "one other pairs",
+        "rooms_parted": "machine j k", "after": "one other", "shows": "shaper at number letters",
+        "idle": "shaper letters", "may_change": "shaper at letters",
+    },
+    "back": {"check_shut": "machine row paper", "first_with": "machine part"},
+    "twins": {"twins": "machine", "check_twins": "machine paper"},
 }
 CLASSES = {
     ("errors", "NoWord"): {"__init__": "self at"},
@@ -45,6 +57,14 @@ CLASSES = {
         "signs_of": "self word place", "trail": "self word", "without": "self at number",
         "exchanged": "self at", "then": "self other", "signs": "self letters", "__len__": "self",
         "__eq__": "self other",
+    },
+    ("machine", "Machine"): {
+        "__init__": "self letters rooms first=''", "row": "self word", "told": "self word", "letters": "self",
+        "first": "self", "rooms": "self", "__len__": "self", "__eq__": "self other", "__str__": "self",
+    },
+    ("back", "Back"): {
+        "__init__": "self machine row", "first": "self", "how_many": "self", "words": "self most",
+        "loop": "self", "shut": "self",
     },
 }
 

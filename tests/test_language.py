@@ -13,13 +13,14 @@ BUILTINS = set(
 METHODS = set(
     "append clear copy count endswith extend find get index insert items join keys ljust lower lstrip partition pop"
     " remove replace reverse rfind rjust setdefault split splitlines startswith strip update upper values zfill"
-    " isdigit isalpha isalnum".split())
+    " isdigit isalpha isalnum isascii".split())
 BARRED_NODES = (
     ast.Global, ast.AsyncFunctionDef, ast.AsyncFor, ast.AsyncWith, ast.Await, ast.GeneratorExp, ast.Yield,
     ast.YieldFrom, ast.Div, ast.MatMult, ast.Import, ast.Try, ast.Set, ast.AnnAssign)
 BARRED_NAMES = set("register mro elements open input law version_info with_traceback add_note".split())
 BARRED_WORDS = set(
     "type typing enum Enum Flag Generic Protocol ABC namedtuple NamedTuple TypedDict abstractmethod".split())
+CHANGING = set("append clear extend insert pop remove reverse setdefault update".split())
 METHOD_NAMES = set("__init__ __eq__ __len__ __str__".split())
 
 
@@ -33,6 +34,29 @@ def bound_names(tree):
     names |= {node.arg for node in ast.walk(tree) if isinstance(node, ast.arg)}
     names |= {node.name for node in ast.walk(tree) if isinstance(node, (ast.FunctionDef, ast.ClassDef))}
     return names | {one.name for node in ast.walk(tree) if isinstance(node, ast.ImportFrom) for one in node.names}
+
+
+def module_names(tree):
+    """The classes of a file, and what it imports."""
+    names = {node.name for node in tree.body if isinstance(node, ast.ClassDef)}
+    return names | {one.name for node in tree.body if isinstance(node, ast.ImportFrom) for one in node.names}
+
+
+def inner_names(function):
+    """The names that a function binds: its parameters and its variables."""
+    names = {node.arg for node in ast.walk(function) if isinstance(node, ast.arg)}
+    return names | {node.id for node in ast.walk(function)
+                    if isinstance(node, ast.Name) and isinstance(node.ctx, ast.Store)}
+
+
+def changed_things(body):
+    """What statements change: by a method that changes, or by an item that is assigned or deleted."""
+    for statement in body:
+        for node in ast.walk(statement):
+            if isinstance(node, ast.Call) and isinstance(node.func, ast.Attribute) and node.func.attr in CHANGING:
+                yield ast.unparse(node.func.value)
+            if isinstance(node, ast.Subscript) and not isinstance(node.ctx, ast.Load):
+                yield ast.unparse(node.value)
 
 
 def defined_names(tree):
@@ -105,6 +129,41 @@ class Language(unittest.TestCase):
                     self.assertIn(node.id, bound | BUILTINS, path)
                 if isinstance(node, ast.Constant) and isinstance(node.value, str) and node.lineno != 1:
                     self.assertFalse(set(node.value.split()) & BARRED_WORDS, (path, node.lineno))
+
+    def test_no_variable_has_the_name_of_a_class_or_an_import(self):
+        for path, tree in trees():
+            for node in ast.walk(tree):
+                if isinstance(node, ast.FunctionDef):
+                    self.assertFalse(inner_names(node) & module_names(tree), (path, node.name))
+
+    def test_what_a_loop_goes_over_is_not_changed_in_it(self):
+        for path, tree in trees():
+            for node in ast.walk(tree):
+                if isinstance(node, ast.For):
+                    gone_over = {ast.unparse(one) for one in ast.walk(node.iter)
+                                 if isinstance(one, (ast.Name, ast.Attribute, ast.Subscript))}
+                    self.assertFalse(gone_over & set(changed_things(node.body)), (path, node.lineno))
+
+    def test_sets_stand_where_they_may(self):
+        for path, tree in trees():
+            may = [one for node in ast.walk(tree) if isinstance(node, ast.Call) and isinstance(node.func, ast.Name)
+                   and node.func.id in ("sorted", "len") for one in ast.walk(node.args[0])]
+            for node in ast.walk(tree):
+                called = isinstance(node, ast.Call) and isinstance(node.func, ast.Name) and node.func.id == "set"
+                if called or isinstance(node, ast.SetComp):
+                    self.assertIn(node, may, (path, node.lineno))
+
+    def test_zips_and_the_like_are_gone_over_at_once(self):
+        heads = ("list", "tuple", "dict", "sorted", "sum", "any", "all", "enumerate", "zip")
+        for path, tree in trees():
+            may = [node.iter for node in ast.walk(tree) if isinstance(node, (ast.For, ast.comprehension))]
+            may += [one for node in ast.walk(tree) if isinstance(node, ast.Call) and isinstance(node.func, ast.Name)
+                    and node.func.id in heads for one in node.args]
+            for node in ast.walk(tree):
+                if isinstance(node, ast.Call):
+                    name = node.func.id if isinstance(node.func, ast.Name) else node.func.attr
+                    if name in ("zip", "enumerate", "range", "reversed", "items", "keys", "values"):
+                        self.assertIn(node, may, (path, node.lineno))
 
     def test_methods(self):
         own = {node.name for path, tree in trees() for one in ast.walk(tree) if isinstance(one, ast.ClassDef)
