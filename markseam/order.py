@@ -89,11 +89,18 @@ def exchanges(case, word):
     return row_between(places, list(range(len(places))))
 
 
+def unlike_at(case, one, other):
+    """Tell the first place at which both words, settled, are unlike, None where they are the same up to their marks."""
+    here = settled(case, one)
+    there = settled(case, other)
+    if here == there:
+        return None
+    return len(common_start(here, there))
+
+
 def same_marks(case, one, other):
     """Tell whether two words are the same up to their marks, and what shows it."""
-    places = places_by(case, one, settled_height)
-    goals = places_by(case, other, settled_height)
-    start = common_start(text_at(one, places), text_at(other, goals))
-    if len(start) < max(len(one), len(other)):
-        return ("unlike", len(start))
-    return ("same", row_between(places, goals))
+    at = unlike_at(case, one, other)
+    if at is not None:
+        return ("unlike", at)
+    return ("same", row_between(places_by(case, one, settled_height), places_by(case, other, settled_height)))

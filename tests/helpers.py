@@ -4,9 +4,12 @@ import itertools
 import unittest
 
 from markseam import errors
+from markseam.case import Case
+from markseam.least import machine_of
 from markseam.machine import Machine
 from markseam.passes import Pass
 from markseam.rules import Rule
+from markseam.script import Script
 from markseam.shaper import Shaper
 
 KINDS = (
@@ -120,6 +123,36 @@ def shaper_by(chance, signs="abc", most=3):
     """A small shaper: a random.Random chooses it."""
     return Shaper([Pass([rule_by(chance, signs) for _ in range(chance.choice([0, 1, 1, 2, 3]))])
                    for _ in range(chance.randrange(most + 1))])
+
+
+def case_by(chance, signs="abc"):
+    """A case, some of the signs of which are marks, with measures: a random.Random chooses it."""
+    def point():
+        return (chance.choice([-1000, -7, 0, 20, 1000]), chance.choice([-1000, -30, 0, 5, 1000]))
+    ranks = {sign: chance.choice([0, 0, 1, 1, 2, 9]) for sign in signs if chance.random() < 0.6}
+    wide = {sign: chance.choice([0, 1, 333, 500, 1000]) for sign in signs
+            if not ranks.get(sign) and chance.random() < 0.7}
+    feet = {sign: point() for sign in signs if ranks.get(sign) and chance.random() < 0.7}
+    seats = {(sign, rank): point() for sign in signs for rank in (1, 2, 9) if chance.random() < 0.4}
+    return Case(ranks, wide, feet, seats)
+
+
+def script_by(chance, signs="abc"):
+    """A small script: a random.Random chooses it."""
+    return Script(case_by(chance, signs), shaper_by(chance, signs))
+
+
+def machine_of_rules(chance, letters="ab"):
+    """The least machine of a small shaper that has not too many stands: a random.Random chooses it."""
+    while True:
+        try:
+            return machine_of(shaper_by(chance, letters), letters)
+        except errors.TooMuch:
+            pass
+
+
+def word_by(chance, signs, most):
+    return "".join(chance.choice(signs) for _ in range(chance.randrange(most + 1)))
 
 
 # Shapers, by the letters, with just as many stands.

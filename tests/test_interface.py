@@ -27,6 +27,8 @@ FUNCTIONS = {
     },
     "back": {"check_shut": "machine row paper", "first_with": "machine part"},
     "twins": {"twins": "machine", "check_twins": "machine paper"},
+    "places": {"seated": "case row", "placed": "hand word", "width": "case row"},
+    "carets": {"spans": "hand word", "stops": "hand word", "caret": "hand word place", "hit": "hand word x"},
 }
 CLASSES = {
     ("errors", "NoWord"): {"__init__": "self at"},
@@ -65,6 +67,10 @@ CLASSES = {
     ("back", "Back"): {
         "__init__": "self machine row", "first": "self", "how_many": "self", "words": "self most",
         "loop": "self", "shut": "self",
+    },
+    ("script", "Script"): {
+        "__init__": "self case shaper", "row": "self word", "glyphs": "self word", "letters_to": "self word",
+        "__eq__": "self other",
     },
 }
 

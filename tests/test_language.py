@@ -21,6 +21,9 @@ BARRED_NAMES = set("register mro elements open input law version_info with_trace
 BARRED_WORDS = set(
     "type typing enum Enum Flag Generic Protocol ABC namedtuple NamedTuple TypedDict abstractmethod".split())
 CHANGING = set("append clear extend insert pop remove reverse setdefault update".split())
+BARRED_ATTRIBUTES = set(
+    "items keys values pop update append clear extend insert remove reverse setdefault sort args encode decode hex"
+    " fromhex format format_map mro".split())
 METHOD_NAMES = set("__init__ __eq__ __len__ __str__".split())
 
 
@@ -172,6 +175,38 @@ class Language(unittest.TestCase):
             for node in ast.walk(tree):
                 if isinstance(node, ast.Call) and isinstance(node.func, ast.Attribute):
                     self.assertIn(node.func.attr, own | METHODS, (path, node.lineno))
+
+    def test_strings(self):
+        for path, tree in trees():
+            for node in ast.walk(tree):
+                if isinstance(node, ast.Constant) and isinstance(node.value, str):
+                    self.assertNotIn("%", node.value, (path, node.lineno))
+                    self.assertFalse("__" in node.value, (path, node.lineno))
+
+    def test_what_is_let_go_is_not_read(self):
+        for path, tree in trees():
+            for node in ast.walk(tree):
+                if isinstance(node, ast.Name) and node.id == "_":
+                    self.assertIsInstance(node.ctx, ast.Store, (path, node.lineno))
+
+    def test_attributes_that_are_read_are_assigned_somewhere(self):
+        found = [node for path, tree in trees() for node in ast.walk(tree)]
+        known = {node.attr for node in found if isinstance(node, ast.Attribute) and isinstance(node.ctx, ast.Store)}
+        called = {id(node.func) for node in found if isinstance(node, ast.Call)}
+        for node in found:
+            if isinstance(node, ast.Attribute) and isinstance(node.ctx, ast.Load) and id(node) not in called:
+                self.assertIn(node.attr, known, node.lineno)
+        self.assertFalse(known & BARRED_ATTRIBUTES)
+
+    def test_tables_are_not_changed_or_passed_on(self):
+        for path, tree in trees():
+            tables = {node.targets[0].id for node in tree.body
+                      if isinstance(node, ast.Assign) and isinstance(node.value, (ast.Dict, ast.List))}
+            may = [node.value for node in ast.walk(tree) if isinstance(node, ast.Subscript)]
+            may += [one for node in ast.walk(tree) if isinstance(node, ast.Compare) for one in node.comparators]
+            for node in ast.walk(tree):
+                if isinstance(node, ast.Name) and node.id in tables and isinstance(node.ctx, ast.Load):
+                    self.assertIn(node, may, (path, node.lineno))
 
     def test_no_name_is_a_method_and_an_attribute(self):
         for path, tree in trees():
