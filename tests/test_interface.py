@@ -29,6 +29,11 @@ FUNCTIONS = {
     "twins": {"twins": "machine", "check_twins": "machine paper"},
     "places": {"seated": "case row", "placed": "hand word", "width": "case row"},
     "carets": {"spans": "hand word", "stops": "hand word", "caret": "hand word place", "hit": "hand word x"},
+    "seams": {"seams": "machine word", "no_seam": "machine word k", "pieces": "machine word", "seamless": "machine"},
+    "texts": {
+        "shown_rule": "rule", "shown_shaper": "shaper", "shown_machine": "machine", "read_rule": "text",
+        "read_shaper": "text", "read_machine": "text",
+    },
 }
 CLASSES = {
     ("errors", "NoWord"): {"__init__": "self at"},
@@ -72,6 +77,12 @@ CLASSES = {
         "__init__": "self case shaper", "row": "self word", "glyphs": "self word", "letters_to": "self word",
         "__eq__": "self other",
     },
+    ("page", "Page"): {
+        "__init__": "self hand letters text=''", "text": "self", "row": "self", "places": "self", "pieces": "self",
+        "put": "self at word", "cut": "self at many", "took_in": "self other", "undo": "self",
+        "parted_at": "self at", "twin": "self", "__len__": "self", "__eq__": "self other", "__str__": "self",
+    },
+    ("desk", "Desk"): {"__init__": "self", "say": "self row"},
 }
 
 

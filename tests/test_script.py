@@ -177,7 +177,8 @@ class Both(SeamCase):
         for call in (HAND.row, HAND.glyphs, HAND.letters_to):
             for thing in no_texts():
                 self.refused(NoWord, -1, call, thing)
-            for word, at in (("1", 0), ("a1", 1), ("a b", 1), ("abc|", 3), ("-", 0), ("ab\n", 2), (" ", 0), ("aB9-", 2)):
+            for word, at in (("1", 0), ("a1", 1), ("a b", 1), ("abc|", 3), ("-", 0), ("ab\n", 2), (" ", 0),
+                             ("aB9-", 2)):
                 self.refused(NoWord, at, call, word)
 
     def test_long_words(self):
